@@ -1,0 +1,1 @@
+"""Sieveways: filters over nested data that give none, one or many outcomes."""
