@@ -70,3 +70,23 @@ def kinds_and_parts(term):
         elif kind == "entries":
             found.extend([("filter", part) for _, part in field])
     return found
+
+
+def with_parts(term, parts):
+    """The filter or test with other parts in the place of its own, as many and in their order."""
+    fields = []
+    begin = 0
+    for kind, field in zip(FORMS[term[0]], term[1:]):
+        if kind in PART_KINDS:
+            fields.append(parts[begin])
+            begin += 1
+        elif kind == "filters":
+            fields.append(tuple(parts[begin:begin + len(field)]))
+            begin += len(field)
+        elif kind == "entries":
+            further = parts[begin:begin + len(field)]
+            fields.append(tuple([(entry[0], part) for entry, part in zip(field, further)]))
+            begin += len(field)
+        else:
+            fields.append(field)
+    return (term[0], *fields)
