@@ -35,7 +35,7 @@ def is_datum(value):
         part, level = waiting.pop()
         if level > MOST_LEVELS or not _may_be_part(part):
             return False
-        inner = _inner(part)
+        inner = inner_of(part)
         # A value may hold one list very often: it is given up before all of it is looked at.
         many += len(inner)
         if many > MOST_PARTS:
@@ -71,18 +71,19 @@ def steps_into(datum):
     return sorted(datum) if isinstance(datum, dict) else []
 
 
-def _inner(datum):
+def inner_of(datum):
+    """The elements of a datum, in order."""
     return [datum[step] for step in steps_into(datum)]
 
 
 def parts_of(datum):
     """How many parts a datum has: itself and those of its elements."""
-    return 1 + sum([parts_of(part) for part in _inner(datum)])
+    return 1 + sum([parts_of(part) for part in inner_of(datum)])
 
 
 def depth_of(datum):
     """How deep a datum is; a leaf, an empty list and an empty dict are 1 deep."""
-    return 1 + max([depth_of(part) for part in _inner(datum)], default=0)
+    return 1 + max([depth_of(part) for part in inner_of(datum)], default=0)
 
 
 def alike(one, other):
@@ -109,7 +110,7 @@ def order_key(datum):
         return 1, place, (2 * datum - 1 if datum > 0 else -2 * datum)
     if sort == "text":
         return 1, place, len(datum), datum
-    inner = [order_key(part) for part in _inner(datum)]
+    inner = [order_key(part) for part in inner_of(datum)]
     many = 1 + sum([key[0] for key in inner])
     if sort == "dict":
         return many, place, tuple(zip(sorted(datum), inner))
@@ -137,32 +138,32 @@ def places(datum):
 
 def part_at(datum, place):
     """The part of a datum at a place."""
-    return copied(_found(datum, place))
+    return copied(found_part(datum, place))
 
 
 def with_part(datum, place, part):
     """The datum with another part at a place."""
-    _found(datum, place)
+    found_part(datum, place)
     if not place:
         return copied(part)
     whole = copied(datum)
-    around = _found(whole, place[:-1])
+    around = found_part(whole, place[:-1])
     around[place[-1]] = copied(part)
     return whole
 
 
 def without(datum, place):
     """The datum in which the element at a place is gone."""
-    _found(datum, place)
+    found_part(datum, place)
     if not place:
         raise NoPart(place)
     whole = copied(datum)
-    around = _found(whole, place[:-1])
+    around = found_part(whole, place[:-1])
     del around[place[-1]]
     return whole
 
 
-def _found(datum, place):
+def found_part(datum, place):
     """The very part at a place, not a copy; any value may be asked for."""
     if not isinstance(place, tuple):
         raise NoPart(place)

@@ -44,8 +44,7 @@ def _further(view, place, terms, step):
     if word == "both":
         return (place, (term[2], *behind), None), (place, (term[1], *behind), None)
     if word == "if":
-        taken = term[2] if holds_in(view, term[1], place) else term[3]
-        return ((place, (taken, *behind), None),)
+        return ((place, (taken_by(view, term, place), *behind), None),)
     told, end = _walked(view, term[1] if word in ("try", "other") else term, place)
     if told == GIVES:
         return ((end, behind, None),)
@@ -63,6 +62,17 @@ def _further_elements(view, place, terms, step):
     return (place, terms, given), (place + (given,), terms[1:], None)
 
 
+def taken_by(view, term, place):
+    """The filter that an if takes for the part at a place."""
+    return term[2] if holds_in(view, term[1], place) else term[3]
+
+
+def walked_by(view, walk, place):
+    """Whether a walk gives an outcome, None if it fails, and the place of the outcome."""
+    told, end = _walked(view, walk, place)
+    return (None if told == FAILS else told == GIVES), end
+
+
 def _walked(view, walk, place):
     """What a walk does from a place: it gives a place, gives none, or fails."""
     word = walk[0]
@@ -74,7 +84,7 @@ def _walked(view, walk, place):
         told, between = _walked(view, walk[1], place)
         return _walked(view, walk[2], between) if told == GIVES else (told, None)
     if word == "if":
-        return _walked(view, walk[2] if holds_in(view, walk[1], place) else walk[3], place)
+        return _walked(view, taken_by(view, walk, place), place)
     if word == "fail" or not view.has(place, walk[1]):
         return FAILS, None
     return GIVES, place + (walk[1],)

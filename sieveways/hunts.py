@@ -42,17 +42,17 @@ def least_datum(node):
 class State:
     """How far a search has come with some data: what is known of them, and where in the stages it is."""
 
-    def __init__(self, sketches, puts, stage, rows, run):
+    def __init__(self, sketches, puts, stage, found, run):
         self.sketches = sketches
         self.puts = puts
         self.stage = stage
-        self.rows = rows
+        self.found = found
         self.run = run
 
     def with_sketch(self, number, sketch):
         """The same with more known of one of the data."""
         sketches = self.sketches[:number] + (sketch,) + self.sketches[number + 1:]
-        return State(sketches, self.puts, self.stage, self.rows, self.run)
+        return State(sketches, self.puts, self.stage, self.found, self.run)
 
     def key(self):
         """The least data that are told come in the order of these tuples."""
@@ -60,84 +60,18 @@ class State:
         return order_key(datum), order_key(row)
 
 
-class Hunt:
-    """A search: the names of its choosers, its stages, its judge, and how many unnamed leaves of a sort it needs."""
+class Splits:
+    """What may be so where something is not known, for choosers that name this.
 
-    def __init__(self, names, stages, judge, others=1):
+    `others` tells how many unnamed leaves of a sort may have to be told apart.
+    """
+
+    def __init__(self, names, others=1):
         self.names = names
-        self.stages = stages
-        self.judge = judge
         self.leaves = {
             "null": (None,), "no": (False,), "yes": (True,),
             "number": names.numbers_with_others(others), "text": names.texts_with_others(others),
         }
-
-    def start(self, hole):
-        """The state in which nothing is known."""
-        return State((hole,), (), 0, (), begun(self.stages[0][1]))
-
-    def first(self):
-        """The first data that are found, the datum ahead of those that were put into it; None if there are none."""
-        start = self.start(WIDE_HOLE)
-        queue = [(start.key(), 0, start)]
-        many = 1
-        while queue:
-            _, _, state = heappop(queue)
-            verdict, state, asked = self.pursued(state)
-            if verdict == FOUND:
-                return [least_datum(sketch) for sketch in state.sketches]
-            if verdict == ASK:
-                for further in self.split(state, asked):
-                    heappush(queue, (further.key(), many, further))
-                    many += 1
-        return None
-
-    def pursued(self, state):
-        """Goes on until it is judged or something must be asked: (verdict, state, what is asked)."""
-        verdict = GO
-        while verdict == GO:
-            try:
-                verdict, state = self._stepped(state)
-            except Unsettled as asked:
-                return ASK, state, (asked.number, asked.place, asked.question)
-        return verdict, state, None
-
-    def _stepped(self, state):
-        word = self.stages[state.stage][0]
-        if word == "put":
-            return self._put(state)
-        behind = View(self.names, state.sketches, state.puts)
-        if word == "equal":
-            return (FOUND if are_unlike(behind, state.rows[-1][0]) else DROP), state
-        view = View(self.names, state.sketches) if word == "ahead" else behind
-        before = len(state.run[1])
-        run = followed(view, state.run)
-        _, places, ends = run
-        if len(places) == before and ends is None:
-            return GO, State(state.sketches, state.puts, state.stage, state.rows, run)
-        judge = self.judge
-        verdict = judge(state.rows, places, ends)
-        if ends is None:
-            return verdict, State(state.sketches, state.puts, state.stage, state.rows, run)
-        return verdict, self._next_stage(state, state.rows + ((places, ends),))
-
-    def _next_stage(self, state, rows):
-        number = state.stage + 1
-        word, term = self.stages[number] if number < len(self.stages) else ("end", None)
-        sketches = state.sketches
-        if word == "put":
-            sketches = sketches + (WIDE_HOLE,) * len(rows[0][0])
-        return State(sketches, state.puts, number, rows, begun(term) if term else None)
-
-    def _put(self, state):
-        """Looks whether each place is there when its turn comes; otherwise putting fails, and nothing is shown."""
-        puts = state.rows[0][0]
-        for number, place in enumerate(puts):
-            view = View(self.names, state.sketches, puts[:number])
-            for length in range(len(place)):
-                if not view.has(place[:length], place[length]):
-                    return DROP, state
-        return GO, self._next_stage(State(state.sketches, puts, state.stage, state.rows, None), state.rows)
 
     def split(self, state, asked):
         """The states with each answer to what is asked, those with data that are not thin left out."""
@@ -155,7 +89,7 @@ class Hunt:
             return False
         if len(state.sketches) == 1:
             return True
-        return View(self.names, state.sketches, state.rows[0][0]).ends() <= MOST_ENDS
+        return View(self.names, state.sketches, state.found[0][0]).ends() <= MOST_ENDS
 
     def _parts(self, node, question, number):
         word = question[0]
@@ -179,3 +113,80 @@ class Hunt:
         if sort == "list":
             return EMPTY_LIST
         return empty_dict(self.names) if sort == "dict" else ("among", self.leaves[sort])
+
+
+class Hunt:
+    """A search: its stages, its judge, and what may be so where something is not known."""
+
+    def __init__(self, splits, stages, judge):
+        self.splits = splits
+        self.names = splits.names
+        self.stages = stages
+        self.judge = judge
+
+    def start(self, hole):
+        """The state in which nothing is known."""
+        return State((hole,), (), 0, (), begun(self.stages[0][1]))
+
+    def first(self):
+        """The first data that are found, the datum ahead of those that were put into it; None if there are none."""
+        start = self.start(WIDE_HOLE)
+        queue = [(start.key(), 0, start)]
+        many = 1
+        while queue:
+            _, _, state = heappop(queue)
+            verdict, state, asked = self.pursued(state)
+            if verdict == FOUND:
+                return [least_datum(sketch) for sketch in state.sketches]
+            if verdict == ASK:
+                for further in self.splits.split(state, asked):
+                    heappush(queue, (further.key(), many, further))
+                    many += 1
+        return None
+
+    def pursued(self, state):
+        """Goes on until it is judged or something must be asked: (verdict, state, what is asked)."""
+        verdict = GO
+        while verdict == GO:
+            try:
+                verdict, state = self._stepped(state)
+            except Unsettled as asked:
+                return ASK, state, (asked.number, asked.place, asked.question)
+        return verdict, state, None
+
+    def _stepped(self, state):
+        word = self.stages[state.stage][0]
+        if word == "put":
+            return self._put(state)
+        behind = View(self.names, state.sketches, state.puts)
+        if word == "equal":
+            return (FOUND if are_unlike(behind, state.found[-1][0]) else DROP), state
+        view = View(self.names, state.sketches) if word == "ahead" else behind
+        before = len(state.run[1])
+        run = followed(view, state.run)
+        _, places, ends = run
+        if len(places) == before and ends is None:
+            return GO, State(state.sketches, state.puts, state.stage, state.found, run)
+        judge = self.judge
+        verdict = judge(state.found, places, ends)
+        if ends is None:
+            return verdict, State(state.sketches, state.puts, state.stage, state.found, run)
+        return verdict, self._next_stage(state, state.found + ((places, ends),))
+
+    def _next_stage(self, state, rows):
+        number = state.stage + 1
+        word, term = self.stages[number] if number < len(self.stages) else ("end", None)
+        sketches = state.sketches
+        if word == "put":
+            sketches = sketches + (WIDE_HOLE,) * len(rows[0][0])
+        return State(sketches, state.puts, number, rows, begun(term) if term else None)
+
+    def _put(self, state):
+        """Looks whether each place is there when its turn comes; otherwise putting fails, and nothing is shown."""
+        puts = state.found[0][0]
+        for number, place in enumerate(puts):
+            view = View(self.names, state.sketches, puts[:number])
+            for length in range(len(place)):
+                if not view.has(place[:length], place[length]):
+                    return DROP, state
+        return GO, self._next_stage(State(state.sketches, puts, state.stage, state.found, None), state.found)

@@ -5,11 +5,11 @@ where data are searched for, ("hole", sorts), one of several sorts, and ("among"
 sort, in the order of data.
 """
 
-from sieveways.data import SORTS, sort_of
+from sieveways.data import sort_of
 from sieveways.words import is_integer
 
 HOLE = ("hole",)
-WIDE_HOLE = ("hole", SORTS)
+WIDE_HOLE = ("hole", ("null", "no", "yes", "number", "text", "list", "dict"))
 ABSENT = ("absent",)
 EMPTY_LIST = ("list", (), False)
 MOST_ENDS = 2

@@ -3,7 +3,7 @@
 from sieveways.choosers import chosen, demand_chooser
 from sieveways.errors import NoQuestion
 from sieveways.forms import begins_kind
-from sieveways.hunts import ASK, DROP, FOUND, GO, Hunt
+from sieveways.hunts import ASK, DROP, FOUND, GO, Hunt, Splits
 from sieveways.known import HOLE
 from sieveways.names import Names
 from sieveways.sketches import answers_named, sketched_named
@@ -35,7 +35,7 @@ def places_within(f, g):
 def _first_datum(choosers, judge):
     for chooser in choosers:
         demand_chooser(chooser)
-    hunt = Hunt(Names(choosers), tuple([("ahead", chooser) for chooser in choosers]), judge)
+    hunt = Hunt(Splits(Names(choosers)), tuple([("ahead", chooser) for chooser in choosers]), judge)
     found = hunt.first()
     return None if found is None else tuple(found)
 
@@ -63,7 +63,7 @@ def likeness(f, g):
     demand_chooser(f)
     demand_chooser(g)
     names = Names((f, g))
-    hunt = Hunt(names, (("ahead", f), ("ahead", g)), _judge_parting)
+    hunt = Hunt(Splits(names), (("ahead", f), ("ahead", g)), _judge_parting)
     nodes = [None]
     waiting = [(0, hunt.start(HOLE))]
     while waiting:
@@ -72,7 +72,7 @@ def likeness(f, g):
         if verdict == FOUND:
             return None
         if verdict == DROP:
-            nodes[index] = state.rows[0]
+            nodes[index] = state.found[0]
             continue
         _, place, question = asked
         begin = len(nodes)

@@ -182,7 +182,7 @@ class LanguageTest(unittest.TestCase):
             free = [inner.name for inner in methods]
             for name in bound_names(tree):
                 self.assertTrue(name in free or name == "_" or not hasattr(builtins, name), (path, name))
-            outer = [node.name for node in tree.body if isinstance(node, (ast.FunctionDef, ast.ClassDef))]
+            outer = [node.name for node in tree.body if isinstance(node, ast.ClassDef)]
             outer += [alias.name for node in tree.body if isinstance(node, ast.ImportFrom) for alias in node.names]
             for node in ast.walk(tree):
                 if isinstance(node, ast.arg):

@@ -229,7 +229,7 @@ class PartingTest(unittest.TestCase):
             self.check(f, g, None)
 
     def test_the_first_of_all_data(self):
-        for seed in range(240):
+        for seed in range(160):
             maker = Maker(seed, ("a",), everys=seed % 4 < 3, indexes=(0,), leaves=(1,) if seed % 4 == 3 else ())
             f, g = maker.chooser(maker.random.randint(1, 8)), maker.chooser(maker.random.randint(1, 8))
             for function, shows in ((parting, told_parting), (places_within, told_places)):

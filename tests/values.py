@@ -22,3 +22,13 @@ def any_values():
         nested(150, lambda inner: ("pipe", inner, inner)), nested(150, lambda inner: [inner, inner]),
         nested(150, lambda inner: ("not", inner)), nested(150, lambda inner: ("first", inner)),
     ]
+
+
+def shown(value):
+    """A text for each value, that tells sorts apart but not the order in which keys were put in."""
+    if isinstance(value, dict):
+        return "{" + ", ".join(f"{key!r}: {shown(value[key])}" for key in sorted(value)) + "}"
+    if isinstance(value, (list, tuple)):
+        inner = ", ".join(shown(part) for part in value)
+        return f"[{inner}]" if isinstance(value, list) else f"({inner},)"
+    return repr(value)

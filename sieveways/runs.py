@@ -1,0 +1,162 @@
+"""Runs of filters: told whole, or outcome by outcome."""
+
+from sieveways.data import alike, copied, is_datum
+from sieveways.driving import driven, guided, started
+from sieveways.engine import open_choices, path_numbers
+from sieveways.errors import InvalidCount, InvalidDatum, InvalidFilter, InvalidLimit, NoWay
+from sieveways.filters import is_closed, is_filter
+from sieveways.told import is_told_alike
+from sieveways.words import is_integer
+
+MOST_STEPS = 2000
+
+
+class Telling:
+    """A whole run."""
+
+    def __init__(self, outcomes, ending, failure, events):
+        self._outcomes = outcomes
+        self._ending = ending
+        self._failure = failure
+        self._events = events
+
+    @property
+    def outcomes(self):
+        """The data of all outcomes."""
+        return tuple([copied(datum) for datum in self._outcomes])
+
+    @property
+    def ending(self):
+        """How the run ended: "done", "failing" or "limit"."""
+        return self._ending
+
+    @property
+    def failure(self):
+        """The datum of the failing, None if there is none."""
+        return self._failure
+
+    @property
+    def events(self):
+        """All steps, in order."""
+        return self._events
+
+    def __eq__(self, other):
+        if not isinstance(other, Telling):
+            return False
+        if not alike(list(self._outcomes), list(other._outcomes)):
+            return False
+        told = (self._ending, self._failure, self._events)
+        return is_told_alike(told, (other._ending, other._failure, other._events))
+
+
+def tell(term, datum, *, limit=1000):
+    """The whole run of a filter on a datum."""
+    run = Run(term, datum, limit=limit)
+    outcomes = list(run.rest())
+    ending = run.ask()
+    return Telling(tuple(outcomes), ending[0], ending[1] if len(ending) > 1 else None, run.events)
+
+
+class Run:
+    """A run of a filter on a datum, outcome by outcome."""
+
+    def __init__(self, term, datum, *, limit=1000):
+        if not is_filter(term) or not is_closed(term):
+            raise InvalidFilter(term)
+        if not is_datum(datum):
+            raise InvalidDatum(datum)
+        if not _is_count(limit):
+            raise InvalidLimit(limit)
+        self._term = term
+        self._datum = copied(datum)
+        self._limit = limit
+        self._engine = started(term, self._datum, limit)
+        self._given = 0
+        self._is_at_outcome = False
+        self._last = None
+
+    @classmethod
+    def from_way(cls, term, datum, way, *, limit=1000):
+        """The run that goes on behind the outcome to which a way leads."""
+        run = cls(term, datum, limit=limit)
+        run.go_behind(way)
+        return run
+
+    def go_behind(self, way):
+        """Lets this run, of which nothing has been asked, go on behind the outcome to which a way leads."""
+        if not _is_way(way):
+            raise NoWay(0)
+        engine = guided(self._term, self._datum, MOST_STEPS, way)
+        if driven(engine)[0] != "outcome":
+            raise NoWay(len(way))
+        engine.noted = []
+        engine.limit = self._limit
+        self._engine = engine
+
+    def ask(self):
+        """The next outcome, or the ending."""
+        if self._last is not None:
+            return self._last
+        told = driven(self._engine)
+        self._is_at_outcome = told[0] == "outcome"
+        if self._is_at_outcome:
+            self._given += 1
+            return "outcome", copied(told[1])
+        self._last = told
+        return told
+
+    def take(self, number):
+        """The data of the next outcomes, so many or all that there are."""
+        if not _is_count(number):
+            raise InvalidCount(number)
+        found = []
+        while len(found) < number:
+            told = self.ask()
+            if told[0] != "outcome":
+                break
+            found.append(told[1])
+        return found
+
+    def rest(self):
+        """The data of all further outcomes, each asked for when it is wanted."""
+        told = self.ask()
+        while told[0] == "outcome":
+            yield told[1]
+            told = self.ask()
+
+    def copy(self):
+        """A run that goes on alike."""
+        other = Run(self._term, self._datum, limit=self._limit)
+        other._engine = self._engine.twin()
+        other._given = self._given
+        other._is_at_outcome = self._is_at_outcome
+        other._last = self._last
+        return other
+
+    def __len__(self):
+        return len(range(self._given))
+
+    @property
+    def events(self):
+        """The steps done, in order."""
+        return tuple(self._engine.noted)
+
+    @property
+    def way(self):
+        """The choices that led to the last outcome; None ahead of the first one and behind the ending."""
+        return path_numbers(self._engine.path) if self._is_at_outcome else None
+
+    @property
+    def held(self):
+        """How many choices of the way of the last outcome are open."""
+        return open_choices(self._engine.path) if self._is_at_outcome else 0
+
+
+def _is_count(value):
+    """Whether any value is an integer from 0 to the most steps."""
+    return is_integer(value) and 0 <= value <= MOST_STEPS
+
+
+def _is_way(value):
+    """Whether any value is a tuple of integers from 0 on."""
+    return isinstance(value, tuple) and all([is_integer(entry) and entry >= 0 for entry in value])
