@@ -73,7 +73,7 @@ class Splits:
             "number": names.numbers_with_others(others), "text": names.texts_with_others(others),
         }
 
-    def split(self, state, asked):
+    def answered(self, state, asked):
         """The states with each answer to what is asked, those with data that are not thin left out."""
         number, place, question = asked
         sketch = state.sketches[number]
@@ -139,7 +139,7 @@ class Hunt:
             if verdict == FOUND:
                 return [least_datum(sketch) for sketch in state.sketches]
             if verdict == ASK:
-                for further in self.splits.split(state, asked):
+                for further in self.splits.answered(state, asked):
                     heappush(queue, (further.key(), many, further))
                     many += 1
         return None

@@ -74,10 +74,11 @@ class View:
     def has(self, place, step):
         """Whether the list or dict at a place has an element at an index or key; no if it is of another sort."""
         if is_integer(step):
-            return self.is_of(place, "list") and self._has_index(place, step)
-        return self.is_of(place, "dict") and self._has_key(place, step)
+            return self.is_of(place, "list") and self.has_index(place, step)
+        return self.is_of(place, "dict") and self.has_key(place, step)
 
-    def _has_index(self, place, index):
+    def has_index(self, place, index):
+        """Whether the list at a place has an element with this index."""
         node = self.node(place)
         if index < len(node[1]):
             return True
@@ -85,34 +86,37 @@ class View:
             self.demand(place, ("more",))
         return False
 
-    def _has_key(self, place, key):
+    def has_key(self, place, key):
+        """Whether the dict at a place has a key."""
+        if key not in self.names.fields:
+            return key in self.gap_keys(place, self.names.gap_of(key))
         node = self.node(place)
-        if key in self.names.fields:
-            if key not in [told for told, _ in node[1]]:
-                self.demand(place, ("key", key))
-        elif node[2][self.names.gap_of(key)] is None:
-            self.demand(place, ("gap", self.names.gap_of(key)))
+        if key not in [told for told, _ in node[1]]:
+            self.demand(place, ("key", key))
         return node_in(node, key) is not None
+
+    def gap_keys(self, place, number):
+        """The keys in a gap of the dict at a place."""
+        gap = self.node(place)[2][number]
+        if gap is None:
+            self.demand(place, ("gap", number))
+        return [key for key, _ in gap]
 
     def step_behind(self, place, step):
         """The index or key of the element behind another one, of the first one behind None, None behind the last."""
         if self.is_of(place, "list"):
             index = 0 if step is None else step + 1
-            return index if self._has_index(place, index) else None
-        node = self.node(place)
-        told = [key for key, _ in node[1]]
-        for number, gap in enumerate(node[2]):
-            if gap is None:
-                self.demand(place, ("gap", number))
-            for key, _ in gap:
+            return index if self.has_index(place, index) else None
+        fields = self.names.fields
+        for number in range(len(fields) + 1):
+            is_last = number == len(fields)
+            if step is not None and not is_last and fields[number] <= step:
+                continue
+            for key in self.gap_keys(place, number):
                 if step is None or key > step:
                     return key
-            if number < len(self.names.fields):
-                field = self.names.fields[number]
-                if field not in told:
-                    self.demand(place, ("key", field))
-                if (step is None or field > step) and node_in(node, field) is not None:
-                    return field
+            if not is_last and self.has_key(place, fields[number]):
+                return fields[number]
         return None
 
     def ends(self, place=()):
