@@ -8,11 +8,11 @@ asked with the rows so far, the places of the run in progress, and its ending, N
 
 from heapq import heappop, heappush
 
-from sieveways.data import order_key
+from sieveways.data import MOST_LEVELS, MOST_PARTS, order_key
 from sieveways.following import begun, followed
 from sieveways.known import (
-    ABSENT, EMPTY_LIST, MOST_ENDS, WIDE_HOLE, closed, empty_dict, known_pairs, longer, node_at, with_gap, with_key,
-    with_node,
+    ABSENT, EMPTY_LIST, MOST_ENDS, WIDE_HOLE, closed, empty_dict, known_pairs, longer, node_at, parts_known, with_gap,
+    with_key, with_node,
 )
 from sieveways.unlikeness import are_unlike
 from sieveways.views import Unsettled, View
@@ -37,6 +37,11 @@ def least_datum(node):
     if word == "list":
         return [least_datum(part) for part in node[1]]
     return {key: least_datum(part) for key, part in known_pairs(node)}
+
+
+def has_room(sketch, place):
+    """Whether what a sketch tells is within the bounds of a datum, where it has elements in the part at a place."""
+    return len(place) + 2 <= MOST_LEVELS and parts_known(sketch) <= MOST_PARTS
 
 
 class State:
@@ -74,15 +79,17 @@ class Splits:
         }
 
     def answered(self, state, asked):
-        """The states with each answer to what is asked, those with data that are not thin left out."""
+        """The states with each answer to what is asked, those with data that are not thin, or too great, left out."""
         number, place, question = asked
         sketch = state.sketches[number]
         parts = self._parts(node_at(sketch, place), question, number)
         states = [state.with_sketch(number, with_node(sketch, place, part)) for part in parts]
-        if question[0] not in ("more", "gap"):
+        word = question[0]
+        if word in ("is", "equal"):
             return states
         # The first answer puts nothing in.
-        return states[:1] + [further for further in states[1:] if self._is_thin(further, number)]
+        further = [one for one in states[1:] if has_room(one.sketches[number], place)]
+        return states[:1] + [one for one in further if word == "key" or self._is_thin(one, number)]
 
     def _is_thin(self, state, number):
         if View(self.names, state.sketches, (), number).ends() > MOST_ENDS:

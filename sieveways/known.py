@@ -23,9 +23,10 @@ def empty_dict(names):
 def known_pairs(node):
     """The keys that a dict is known to have, ascending, each with what is known of its value."""
     pairs = [pair for pair in node[1] if pair[1] != ABSENT]
+    named = len(pairs)
     for gap in node[2]:
         pairs.extend(gap or ())
-    return sorted(pairs, key=lambda pair: pair[0])
+    return sorted(pairs, key=lambda pair: pair[0]) if len(pairs) > named else pairs
 
 
 def known_steps(node):
@@ -33,6 +34,15 @@ def known_steps(node):
     if node[0] == "list":
         return list(range(len(node[1])))
     return [key for key, _ in known_pairs(node)] if node[0] == "dict" else []
+
+
+def parts_known(node):
+    """How many parts a node is known to have, itself and those of its elements."""
+    if node[0] == "list":
+        return 1 + sum([parts_known(part) for part in node[1]])
+    if node[0] == "dict":
+        return 1 + sum([parts_known(part) for _, part in known_pairs(node)])
+    return 1
 
 
 def node_in(node, step):

@@ -6,10 +6,11 @@ those decisions are taken back on which it hangs: so what does not matter is not
 numbered from 0, and several of them are told by an integer in which their bits are set.
 """
 
+from sieveways.data import MOST_LEVELS, MOST_PARTS
 from sieveways.following import begun, followed, taken_by, walked_by
 from sieveways.hunts import Splits, State
-from sieveways.known import WIDE_HOLE, node_at
-from sieveways.names import Names
+from sieveways.known import WIDE_HOLE, node_at, parts_known
+from sieveways.names import MOST_IN_GAP, Names
 from sieveways.patterns import covers_pattern, fits, leads
 from sieveways.views import Unsettled, View
 
@@ -20,7 +21,8 @@ def touched_patterns(f, patterns):
     """The patterns that places of a chooser fit; those that one of these covers may be left out."""
     splits = Splits(Names((f,)))
     found = {}
-    for goal in sorted(patterns, key=len):
+    # The last one of several has most outcomes ahead of it, which are shown with it.
+    for goal in sorted(list(reversed(patterns)), key=len):
         if not [one for one in found if covers_pattern(one, goal)]:
             for place in Search(splits, f, goal).found_places():
                 for pattern in patterns:
@@ -172,7 +174,7 @@ class Search:
         word = question[0]
         states = self.splits.answered(State((at.sketch,), (), 0, (), None), (0, place, question))
         many = 1 + len(self.splits.names.gaps[question[1]]) if word == "gap" else 2
-        blamed = 0 if len(states) == many else self._growing_decisions(at.sketch)
+        blamed = 0 if len(states) == many else self._growing_decisions(at.sketch, place)
         is_every = isinstance(at, Going) and at.run[0][-1][1][0] == ("every",)
         # An every wants no more, a field and an item want what they look at to be there.
         if word in ("key", "more") and not is_every:
@@ -185,8 +187,11 @@ class Search:
             options = [Going(sketch, at.run, at.hangs, at.blamed) for sketch in sketches]
         return self._decided(Decision((place, SORT if word in ("is", "equal") else question), options, blamed))
 
-    def _growing_decisions(self, sketch):
-        """The decisions by which unnamed elements were put in, so that there is no room for more elsewhere."""
+    def _growing_decisions(self, sketch, place):
+        """The decisions by which there is no room for more elements in the part at a place."""
+        if len(place) + 2 > MOST_LEVELS or parts_known(sketch) + MOST_IN_GAP > MOST_PARTS:
+            return self._all_decisions()
+        # Unnamed elements were put in elsewhere.
         found = 0
         for number, decision in enumerate(self.decisions):
             if decision.asked is not None and self._is_growing(sketch, *decision.asked):
@@ -249,9 +254,9 @@ def _further(view, place, terms, goal):
 def _steps_of_every(names, step):
     """Steps to an element that is given by an every, where the place must fit a step of a pattern.
 
-    Unnamed elements come first, as least is asked of them; an index needs all those ahead of it.
+    Those come first that need least: an index needs all those ahead of it, of an unnamed key nothing else is asked.
     """
     if step != ("every",):
         return [step]
     gap = [gap for gap in names.gaps if gap][0]
-    return [("field", gap[0]), *[("item", index) for index in reversed(range(names.many + 1))]]
+    return [("field", gap[0]), *[("item", index) for index in range(names.many + 1)]]

@@ -10,11 +10,12 @@ from sieveways import bounds as module
 from sieveways.bounds import apart, covers, exchanged, kept, regained, single, touched
 from sieveways.data import alike, begins, order_key, part_at, parts_of, with_part
 from sieveways.errors import Fails, NoPart, NotChooser
-from sieveways.likeness import row_of
+from sieveways.likeness import parting, row_of
 from sieveways.names import Names
 from sieveways.deeds import deeds
 from sieveways.runs import tell
 from tests.brute import Maker, all_data, compositions, data_of
+from tests.test_filters import tree
 from tests.values import shown
 
 S = ("same",)
@@ -179,6 +180,25 @@ class TouchedTest(unittest.TestCase):
         choices = [("if", at(("field", name), ("is", "list")), pipe(("field", name), E), ("try", ("field", name))) for name in NAMES[:16]]
         self.assertEqual(touched(wide(choices)), tuple((("field", name),) for name in NAMES[:16]))
         self.assertLess(time.process_time() - begin, 20)
+
+    def test_what_does_not_matter_is_not_tried_in_all_its_forms(self):
+        begin = time.process_time()
+        choices = wide([("if", at(("field", name), ("is", "list")), ("field", name), NONE) for name in NAMES[:24]])
+        only_list = pipe(A, ("if", ("is", "list"), NONE, FAIL))
+        told = tuple((("field", name),) for name in NAMES[:24])
+        self.check(both(choices, only_list, pipe(A, B)), *told)
+        self.check(both(choices, only_list, pipe(A, both(I0, B))), *told, (A, I0))
+        self.check(both(pipe(E, E, E, both(I2, NONE)), both(B, ("if", ("is", "dict"), NONE, A))), (B,), (E, E, E, I2))
+        self.check(both(pipe(E, E, I2, ("try", A)), I0, pipe(C, B)), (I0,), (E, E, I2, A))
+        self.assertLess(time.process_time() - begin, 10)
+
+    def test_places_that_are_too_deep_or_too_great_for_a_datum(self):
+        self.assertEqual(touched(tree("pipe", 59, A)), ((A,) * 59,))
+        self.assertEqual(touched(tree("pipe", 60, A)), ())
+        self.assertEqual(touched(tree("pipe", 9, ("item", 99))), ((("item", 99),) * 9,))
+        self.assertEqual(touched(tree("pipe", 10, ("item", 99))), ())
+        self.assertIsNone(parting(tree("pipe", 60, A), FAIL))
+        self.assertIsNotNone(parting(tree("pipe", 59, A), FAIL))
 
     def test_all_data_of_few_parts(self):
         for seed in range(120):
