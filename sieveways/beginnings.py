@@ -162,19 +162,21 @@ def _reduce(engine, term, datum, _place, env):
 
 
 def _first(engine, term, datum, _place, env):
-    mark = engine.mark()
-    engine.choice("pass", None)
-    engine.frame("first", mark)
-    engine.is_led = False
-    engine.begin(term[1], datum, (), env)
+    _begin_free(engine, "pass", "first", (term[1], datum, env))
 
 
 def _fails(engine, term, datum, _place, env):
+    _begin_free(engine, "fails", "fails", (term[1], datum, env))
+
+
+def _begin_free(engine, choice, frame, told):
+    """Begins a filter of which at most one outcome goes on, so that what it chooses is not told by a way."""
+    term, datum, env = told
     mark = engine.mark()
-    engine.choice("fails", None)
-    engine.frame("fails", mark)
+    engine.choice(choice, None)
+    engine.frame(frame, mark)
     engine.is_led = False
-    engine.begin(term[1], datum, (), env)
+    engine.begin(term, datum, (), env)
 
 
 def _def(engine, term, datum, _place, env):

@@ -3,25 +3,8 @@
 What these functions return shares parts with what they are given; nothing here changes a list or dict in its place.
 """
 
-from sieveways.data import MOST_LEVELS, MOST_PARTS, found_part, inner_of
+from sieveways.data import found_part, is_small
 from sieveways.errors import Fails, NoPart
-
-
-def is_small(datum):
-    """Whether a list or dict of data is within the bounds of a datum."""
-    waiting = [(datum, 1)]
-    many = 1
-    while waiting:
-        part, level = waiting.pop()
-        if level > MOST_LEVELS:
-            return False
-        inner = inner_of(part)
-        # The same part may stand at very many places: it is given up before all of it is looked at.
-        many += len(inner)
-        if many > MOST_PARTS:
-            return False
-        waiting.extend([(below, level + 1) for below in inner])
-    return True
 
 
 def demand_small(datum):

@@ -29,11 +29,21 @@ def _is_text(text):
 
 def is_datum(value):
     """Whether any value is a datum."""
+    return _is_bounded(value, True)
+
+
+def is_small(datum):
+    """Whether what is made of data is within the bounds of a datum."""
+    return _is_bounded(datum, False)
+
+
+def _is_bounded(value, may_be_any):
+    """Whether a value has no more parts and levels than a datum; if it may be any, whether its parts are right, too."""
     waiting = [(value, 1)]
     many = 1
     while waiting:
         part, level = waiting.pop()
-        if level > MOST_LEVELS or not _may_be_part(part):
+        if level > MOST_LEVELS or may_be_any and not _may_be_part(part):
             return False
         inner = inner_of(part)
         # A value may hold one list very often: it is given up before all of it is looked at.
