@@ -38,7 +38,7 @@ def _further(view, place, terms, step):
     if word == "none":
         return ()
     if word == "every":
-        return _further_elements(view, place, terms, step)
+        return _further_parts(view, place, terms, step)
     if word == "pipe":
         return ((place, (term[1], term[2], *behind), None),)
     if word == "both":
@@ -53,7 +53,8 @@ def _further(view, place, terms, step):
     return () if word == "try" else None
 
 
-def _further_elements(view, place, terms, step):
+def _further_parts(view, place, terms, step):
+    """The tasks that come of an every: its next element, and behind that the every itself; None if it fails."""
     if step is None and not view.is_of(place, "list") and not view.is_of(place, "dict"):
         return None
     given = view.step_behind(place, step)
