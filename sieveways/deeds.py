@@ -1,5 +1,6 @@
 """Deeds: what a change of a datum does, one thing after the other, done, taken back, and where parts are behind it."""
 
+from sieveways.asking import MOST_STEPS
 from sieveways.changes import (
     behind, deed_at, drop_at, inserted, new_part_of, part_to_change, places_to_drop,
 )
@@ -10,7 +11,6 @@ from sieveways.errors import Fails, NoPart, NotThere
 from sieveways.told import is_told_alike
 from sieveways.words import is_integer, is_name
 
-MOST_STEPS = 2000
 LENGTHS = {"put": 4, "drop": 3, "add": 3}
 
 

@@ -72,7 +72,7 @@ def _is_field(value, told):
     if told == "free":
         return is_free_name(value)
     if told == "index":
-        return is_integer(value) and 0 <= value <= MOST_INDEX
+        return is_index(value)
     if told == "leaf":
         return is_leaf(value)
     if told == "sort":
@@ -84,6 +84,11 @@ def _is_field(value, told):
     if told == "parameters":
         return len(value) <= MOST_HANDED and all([is_free_name(name) for name in value]) and _are_unlike(value)
     return _are_entries(value)
+
+
+def is_index(value):
+    """Whether any value can be the index of an item."""
+    return is_integer(value) and 0 <= value <= MOST_INDEX
 
 
 def _are_entries(values):

@@ -1,7 +1,7 @@
 """Shapes: which values are some."""
 
 from sieveways.data import SORTS, is_leaf
-from sieveways.filters import MOST_INDEX, MOST_LEVELS, is_chooser
+from sieveways.filters import MOST_LEVELS, is_chooser, is_index
 from sieveways.words import is_free_name, is_integer, is_name
 
 MOST_LEAST = 4
@@ -61,7 +61,7 @@ def _is_field(value, told):
     if told == "free":
         return is_free_name(value)
     if told == "index":
-        return is_integer(value) and 0 <= value <= MOST_INDEX
+        return is_index(value)
     if told == "length":
         return is_integer(value) and 0 <= value <= MOST_LEAST
     return told == "shape" or is_chooser(value)

@@ -68,6 +68,17 @@ def _names_between(low, high):
     return tuple(found)
 
 
+def first_names(many, named):
+    """The first so many names that are not named, as Python orders strings."""
+    found = []
+    name = _next_name("")
+    while len(found) < many:
+        if name not in named:
+            found.append(name)
+        name = _next_name(name)
+    return found
+
+
 def _next_name(name):
     """The name right behind another one as Python orders strings; "" behind the last one."""
     if len(name) < MOST_LETTERS:

@@ -1,14 +1,13 @@
 """Runs of filters: told whole, or outcome by outcome."""
 
-from sieveways.data import alike, copied, is_datum
+from sieveways.asking import MOST_STEPS, demand_datum_and_limit, taken
+from sieveways.data import alike, copied
 from sieveways.driving import driven, guided, started
 from sieveways.engine import open_choices, path_numbers
-from sieveways.errors import InvalidCount, InvalidDatum, InvalidFilter, InvalidLimit, NoWay
+from sieveways.errors import InvalidFilter, NoWay
 from sieveways.filters import is_closed, is_filter
 from sieveways.told import is_told_alike
 from sieveways.words import is_integer
-
-MOST_STEPS = 2000
 
 
 class Telling:
@@ -61,12 +60,7 @@ class Run:
     """A run of a filter on a datum, outcome by outcome."""
 
     def __init__(self, term, datum, *, limit=1000):
-        if not is_filter(term) or not is_closed(term):
-            raise InvalidFilter(term)
-        if not is_datum(datum):
-            raise InvalidDatum(datum)
-        if not _is_count(limit):
-            raise InvalidLimit(limit)
+        demand_run(term, datum, limit)
         self._term = term
         self._datum = copied(datum)
         self._limit = limit
@@ -84,8 +78,7 @@ class Run:
 
     def go_behind(self, way):
         """Lets this run, of which nothing has been asked, go on behind the outcome to which a way leads."""
-        if not _is_way(way):
-            raise NoWay(0)
+        demand_way(way)
         engine = guided(self._term, self._datum, MOST_STEPS, way)
         if driven(engine)[0] != "outcome":
             raise NoWay(len(way))
@@ -107,15 +100,7 @@ class Run:
 
     def take(self, number):
         """The data of the next outcomes, so many or all that there are."""
-        if not _is_count(number):
-            raise InvalidCount(number)
-        found = []
-        while len(found) < number:
-            told = self.ask()
-            if told[0] != "outcome":
-                break
-            found.append(told[1])
-        return found
+        return taken(self, number)
 
     def rest(self):
         """The data of all further outcomes, each asked for when it is wanted."""
@@ -152,11 +137,14 @@ class Run:
         return open_choices(self._engine.path) if self._is_at_outcome else 0
 
 
-def _is_count(value):
-    """Whether any value is an integer from 0 to the most steps."""
-    return is_integer(value) and 0 <= value <= MOST_STEPS
+def demand_run(term, datum, limit):
+    """Raises the errors of a run for any values that are no closed filter, no datum, no limit."""
+    if not is_filter(term) or not is_closed(term):
+        raise InvalidFilter(term)
+    demand_datum_and_limit(datum, limit)
 
 
-def _is_way(value):
-    """Whether any value is a tuple of integers from 0 on."""
-    return isinstance(value, tuple) and all([is_integer(entry) and entry >= 0 for entry in value])
+def demand_way(value):
+    """Raises NoWay for any value that is not a tuple of integers from 0 on."""
+    if not isinstance(value, tuple) or not all([is_integer(entry) and entry >= 0 for entry in value]):
+        raise NoWay(0)

@@ -62,12 +62,12 @@ class WatchedView(View):
 class Decision:
     """What may be so, in the order in which it is tried.
 
-    `asked` is the place with what is told of it, None for a choice of ways; `blamed` are the decisions on which it
+    `about` is the place with what is told of it, None for a choice of ways; `blamed` are the decisions on which it
     hangs that what was tried has led to nothing.
     """
 
-    def __init__(self, asked, options, blamed):
-        self.asked = asked
+    def __init__(self, about, options, blamed):
+        self.about = about
         self.options = options
         self.blamed = blamed
 
@@ -165,7 +165,7 @@ class Search:
         """The decisions about what was looked at."""
         found = 0
         for number, decision in enumerate(self.decisions):
-            if decision.asked is not None and decision.asked in seen:
+            if decision.about is not None and decision.about in seen:
                 found = found | (1 << number)
         return found
 
@@ -194,7 +194,7 @@ class Search:
         # Unnamed elements were put in elsewhere.
         found = 0
         for number, decision in enumerate(self.decisions):
-            if decision.asked is not None and self._is_growing(sketch, *decision.asked):
+            if decision.about is not None and self._is_growing(sketch, *decision.about):
                 found = found | (1 << number)
         return found
 

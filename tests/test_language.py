@@ -34,6 +34,10 @@ BARRED_WORDS = re.compile(
     r"\b(typing|typing_extensions|enum|Enum|IntEnum|StrEnum|Flag|IntFlag|Generic|Protocol|ABC|ABCMeta|namedtuple|"
     r"NamedTuple|TypedDict|TYPE_CHECKING|abstractmethod)\b|dataclass|overload|contextmanager"
 )
+BARRED_ATTRIBUTES = set(
+    "items keys values pop update append clear extend insert remove reverse setdefault sort args encode decode hex fromhex "
+    "format format_map mro decode as_integer_ratio bit_count conjugate from_bytes is_integer to_bytes".split()
+)
 STATEMENTS = (
     ast.Assign, ast.AugAssign, ast.AnnAssign, ast.If, ast.While, ast.For, ast.Return, ast.Break, ast.Continue, ast.Pass,
     ast.Raise, ast.Assert, ast.Delete, ast.Nonlocal, ast.Match, ast.With, ast.Try, ast.Expr, ast.FunctionDef,
@@ -230,9 +234,29 @@ class LanguageTest(unittest.TestCase):
         self.assertTrue(taken, (path, node.lineno))
 
     def test_generators_have_names_of_their_own(self):
+        # A Machine has the methods of a Run, so two generators are called rest; no other function is called so.
+        for where, node in self.nodes():
+            if isinstance(node, ast.FunctionDef) and node.name in self.generators:
+                self.assertTrue(any(isinstance(inner, (ast.Yield, ast.YieldFrom)) for inner in ast.walk(node)), where)
         names = [node.name for _, node in self.nodes() if isinstance(node, ast.FunctionDef)]
-        for name in self.generators:
-            self.assertEqual(names.count(name), 1, name)
+        self.assertEqual([name for name in sorted(self.generators) if names.count(name) > 1], ["rest"])
+
+    def test_properties_and_attributes(self):
+        classes = [node for _, node in self.nodes() if isinstance(node, ast.ClassDef)]
+        methods = [inner for node in classes for inner in node.body if isinstance(inner, ast.FunctionDef)]
+        properties = {inner.name for inner in methods if inner.decorator_list and ast.unparse(inner.decorator_list[0]) == "property"}
+        plain = {inner.name for inner in methods} - properties
+        self.assertEqual(properties & plain, set())
+        for where, node in self.nodes():
+            if isinstance(node, ast.Attribute) and not isinstance(node.ctx, ast.Load):
+                self.assertNotIn(node.attr, properties | BARRED_ATTRIBUTES, where)
+            if isinstance(node, ast.FunctionDef):
+                self.assertNotIn(node.name, {"keys", "items", "values"}, where)
+        for node in classes:
+            own = {inner.name for inner in node.body if isinstance(inner, ast.FunctionDef)}
+            for inner in ast.walk(node):
+                if isinstance(inner, ast.Attribute) and not isinstance(inner.ctx, ast.Load):
+                    self.assertNotIn(inner.attr, own, node.name)
 
 
 if __name__ == "__main__":
