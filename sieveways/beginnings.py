@@ -186,8 +186,12 @@ def _def(engine, term, datum, _place, env):
 def _call(engine, term, datum, _place, env):
     engine.note(("call", term[1]))
     found = env
-    while found[0] == "value" or found[1] != term[1]:
+    while found[0] != "book" and (found[0] == "value" or found[1] != term[1]):
         found = found[3]
+    if found[0] == "book":
+        # Filters of a book are all known to one another, and nothing else is known to them.
+        engine.begin(found[2][term[1]], datum, (), found)
+        return
     if found[0] == "handed":
         body, outer = found[2]
         engine.begin(body, datum, (), outer)

@@ -11,14 +11,14 @@ from sieveways.slots import Slots, first_leaves, list_slots
 
 class Counts:
     """For each slot of each kind: with how many parts in all it can be free, by the facts about elements that are so
-    then (`totals`), and how many parts an element can have, by what it tells there (`sizes`).
+    then (`totals`), and how many parts an element can have, by what it tells there (`counted`).
     """
 
     def __init__(self, scheme):
         self.scheme = scheme
         self.kinds = (list_slots(scheme), _dict_slots(scheme))
         self.totals = [slots.tables() for slots in self.kinds]
-        self.sizes = [slots.tables() for slots in self.kinds]
+        self.counted = [slots.tables() for slots in self.kinds]
         self.closed = {}
         for kind in range(len(self.kinds)):
             self.totals[kind][0][scheme.each_mask] = 1
@@ -59,14 +59,14 @@ class Counts:
         """Notes that an element with these truths can have so many parts."""
         for kind, slots in enumerate(self.kinds):
             for slot, lines in enumerate(slots.lines):
-                table = self.sizes[kind][slot]
+                table = self.counted[kind][slot]
                 told = self.scheme.told_by(lines, row)
                 table[told] = table.get(told, 0) | (1 << parts)
 
     def _fill(self, kind, slot, parts):
         """Puts elements in a slot by which there are so many parts in all."""
         behind = self.totals[kind][self.kinds[kind].behind(slot)]
-        for told, sizes in self.sizes[kind][slot].items():
+        for told, sizes in self.counted[kind][slot].items():
             # The bits of the numbers of parts that are missing ahead of the element.
             ahead = sum([1 << (parts - size) for size in range(1, parts + 1) if (sizes >> size) & 1])
             for mask, totals in list(self.totals[kind][slot].items()):

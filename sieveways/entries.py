@@ -1,6 +1,7 @@
-"""What may stand in a book: names, and shapes that tell a set of data."""
+"""What may stand in a book: free names, with closed filters and with shapes that use one another rightly."""
 
 from sieveways.errors import InvalidEntry, InvalidName, Standing, Unknown
+from sieveways.filters import first_unbound, is_filter
 from sieveways.formulas import is_shape, shapes_in
 from sieveways.words import is_free_name
 
@@ -12,11 +13,26 @@ def demand_names(entries):
             raise InvalidName(name)
 
 
+def demand_filters(filters):
+    """Raises InvalidEntry for the first name, ascending, under which any value stands that is no filter."""
+    for name in sorted(filters):
+        if not is_filter(filters[name]):
+            raise InvalidEntry(name)
+
+
 def demand_shapes(shapes):
     """Raises InvalidEntry for the first name, ascending, under which any value stands that is no shape."""
     for name in sorted(shapes):
         if not is_shape(shapes[name]):
             raise InvalidEntry(name)
+
+
+def demand_known_calls(filters):
+    """Raises Unknown for the first filter, ascending, with a name or call that is bound neither in it nor by a name."""
+    for name in sorted(filters):
+        word = first_unbound(filters[name], filters)
+        if word is not None:
+            raise Unknown(name, word)
 
 
 def demand_known_shapes(shapes):

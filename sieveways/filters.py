@@ -1,7 +1,7 @@
 """Filters and tests: which values are some, and which names in them are bound."""
 
 from sieveways.data import SORTS, is_leaf
-from sieveways.forms import FORMS, PART_KINDS, begins_kind, kinds_and_parts
+from sieveways.forms import FORMS, PART_KINDS, begins_kind, kinds_and_parts, narrowed
 from sieveways.words import is_free_name, is_integer, is_name
 
 MOST_SPOTS = 200
@@ -42,13 +42,8 @@ def _is_of_kind(value, kind):
         many += len(inner)
         if many > MOST_SPOTS:
             return False
-        waiting.extend([(part, _narrowed(wanted, told), level + 1) for told, part in inner])
+        waiting.extend([(part, narrowed(wanted, told), level + 1) for told, part in inner])
     return True
-
-
-def _narrowed(outer, kind):
-    """What a part must be: the filters in a walk are walks, those in a chooser choosers."""
-    return outer if kind == "filter" else kind
 
 
 def _has_form(value, kind):
@@ -103,27 +98,54 @@ def _are_unlike(names):
 
 def is_closed(term):
     """Whether each name and each call in a filter is bound in it."""
-    waiting = [(term, {}, {})]
-    while waiting:
-        part, names, calls = waiting.pop()
+    return first_unbound(term, {}) is None
+
+
+def first_unbound(term, known):
+    """The first name in reading order that is not bound, None if all are; calls of known filters without others are."""
+    for _, part, names, calls in _scoped_parts(term):
         if part[0] == "name" and part[1] not in names:
-            return False
-        if part[0] == "call" and calls.get(part[1]) != len(part[2]):
-            return False
-        waiting.extend(_with_scopes(part, names, calls))
-    return True
+            return part[1]
+        if part[0] == "call" and not _may_be_called(part, calls, known):
+            return part[1]
+    return None
 
 
-def _with_scopes(term, names, calls):
-    """The parts of a term, each with the names and with the calls, and how many filters they take, bound there."""
-    found = [(part, names, calls) for _, part in kinds_and_parts(term)]
+def _may_be_called(call, calls, known):
+    _, name, handed = call
+    return calls[name] == len(handed) if name in calls else name in known and not handed
+
+
+def outer_calls(term):
+    """The spots of all calls that are not bound in a filter, in reading order, each with its name."""
+    called = [(spot, part[1], calls) for spot, part, _, calls in _scoped_parts(term) if part[0] == "call"]
+    return [(spot, name) for spot, name, calls in called if name not in calls]
+
+
+def _scoped_parts(term):
+    """All parts in reading order, each behind its spot, with the names and the calls that are bound there.
+
+    Of a call is told how many filters it takes.
+    """
+    waiting = [((), term, {}, {})]
+    found = []
+    while waiting:
+        row = waiting.pop()
+        found.append(row)
+        waiting.extend(list(reversed(_inner_scopes(*row))))
+    return found
+
+
+def _inner_scopes(spot, term, names, calls):
+    """The parts of a term, each with the names and calls bound there."""
+    parts = [part for _, part in kinds_and_parts(term)]
+    scopes = [(names, calls)] * len(parts)
     if term[0] in ("as", "reduce"):
-        bound = {**names, term[2]: True}
-        found[-1] = (found[-1][0], bound, calls)
+        scopes[-1] = ({**names, term[2]: True}, calls)
     if term[0] == "def":
         outer = {**calls, term[1]: len(term[2])}
         inner = dict(outer)
         for name in term[2]:
             inner[name] = 0
-        found = [(found[0][0], names, inner), (found[1][0], names, outer)]
-    return found
+        scopes = [(names, inner), (names, outer)]
+    return [(spot + (number,), part, *scope) for number, (part, scope) in enumerate(zip(parts, scopes))]

@@ -59,6 +59,11 @@ def begins_kind(word, kind):
     return word in FORMS and (word in TESTS) == (kind == "test")
 
 
+def narrowed(outer, kind):
+    """What a part must be: the filters in a walk are walks, those in a chooser choosers."""
+    return outer if kind == "filter" else kind
+
+
 def kinds_and_parts(term):
     """The parts of a filter or test, in order, as pairs of what must stand there and the part."""
     found = []

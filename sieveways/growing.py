@@ -10,12 +10,12 @@ from sieveways.slots import Slots, first_leaves, list_slots
 
 
 class Made:
-    """A datum: its rank, the tuple by which it is ordered among data, its truths, and how deep it is."""
+    """A datum: its rank, the tuple by which it is ordered among data, its row of truths, and how deep it is."""
 
-    def __init__(self, datum, rank, truths, level):
+    def __init__(self, datum, rank, row, level):
         self.datum = datum
         self.rank = rank
-        self.truths = truths
+        self.row = row
         self.level = level
 
 
@@ -61,7 +61,7 @@ class Growth:
         while parts < MOST_PARTS and (self.pending or self.fresh):
             parts += 1
             for made in self._made(parts):
-                if made.truths & self.scheme.goal:
+                if made.row & self.scheme.goal:
                     return (made.datum,)
                 self._spread(made)
             self._settle(parts)
@@ -97,7 +97,7 @@ class Growth:
 
     def _spread(self, made):
         """Puts a datum behind all rows, if no one ahead of it is alike."""
-        row = made.truths & self.scheme.watched
+        row = made.row & self.scheme.watched
         if row in self.seen:
             return
         self.seen[row] = True

@@ -50,10 +50,23 @@ class Telling:
 
 def tell(term, datum, *, limit=1000):
     """The whole run of a filter on a datum."""
-    run = Run(term, datum, limit=limit)
-    outcomes = list(run.rest())
-    ending = run.ask()
-    return Telling(tuple(outcomes), ending[0], ending[1] if len(ending) > 1 else None, run.events)
+    demand_run(term, datum, limit)
+    return _told_to_its_end(started(term, copied(datum), limit))
+
+
+def tell_called(filters, name, datum, limit):
+    """The whole run of a call of one of the filters of a book, in which each of them can be called."""
+    demand_datum_and_limit(datum, limit)
+    return _told_to_its_end(started(("call", name, ()), copied(datum), limit, ("book", None, filters, None)))
+
+
+def _told_to_its_end(engine):
+    outcomes = []
+    told = driven(engine)
+    while told[0] == "outcome":
+        outcomes.append(copied(told[1]))
+        told = driven(engine)
+    return Telling(tuple(outcomes), told[0], told[1] if len(told) > 1 else None, tuple(engine.noted))
 
 
 class Run:

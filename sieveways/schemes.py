@@ -85,7 +85,7 @@ class Scheme:
         """From this length on all lengths are alike."""
         return max([line[1] for _, line in self.lines if line[0] == "least"], default=0)
 
-    def leaves(self):
+    def told_leaves(self):
         """All leaves that are told."""
         return [line[2] for _, line in self.lines if line[0] == "equal"]
 

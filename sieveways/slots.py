@@ -37,5 +37,5 @@ def list_slots(scheme):
 
 def first_leaves(scheme):
     """The leaves that are told, and the first one of all others of each sort."""
-    names = Names([("equal", leaf) for leaf in scheme.leaves()])
+    names = Names([("equal", leaf) for leaf in scheme.told_leaves()])
     return [None, False, True, *names.numbers_with_others(1), *names.texts_with_others(1)]
