@@ -79,7 +79,9 @@ class House:
         return iter(self._story.names)
 
     def __eq__(self, other):
-        return isinstance(other, House) and not isinstance(other, GuardedHouse) and _are_alike(self._story, other._story)
+        if not isinstance(other, House) or isinstance(other, GuardedHouse):
+            return False
+        return _are_alike(self._story, other._story)
 
     def change(self, *deeds):
         """Does deeds in one change."""

@@ -1,9 +1,8 @@
 """Runs of filters: told whole, or outcome by outcome."""
 
-from sieveways.asking import MOST_STEPS, demand_datum_and_limit, taken
+from sieveways.asking import MOST_STEPS, Asked, demand_datum_and_limit
 from sieveways.data import alike, copied
 from sieveways.driving import driven, guided, started
-from sieveways.engine import open_choices, path_numbers
 from sieveways.errors import InvalidFilter, NoWay
 from sieveways.filters import is_closed, is_filter
 from sieveways.told import is_told_alike
@@ -77,10 +76,7 @@ class Run:
         self._term = term
         self._datum = copied(datum)
         self._limit = limit
-        self._engine = started(term, self._datum, limit)
-        self._given = 0
-        self._is_at_outcome = False
-        self._last = None
+        self._asked = Asked(started(term, self._datum, limit), driven)
 
     @classmethod
     def from_way(cls, term, datum, way, *, limit=1000):
@@ -97,23 +93,15 @@ class Run:
             raise NoWay(len(way))
         engine.noted = []
         engine.limit = self._limit
-        self._engine = engine
+        self._asked = Asked(engine, driven)
 
     def ask(self):
         """The next outcome, or the ending."""
-        if self._last is not None:
-            return self._last
-        told = driven(self._engine)
-        self._is_at_outcome = told[0] == "outcome"
-        if self._is_at_outcome:
-            self._given += 1
-            return "outcome", copied(told[1])
-        self._last = told
-        return told
+        return self._asked.next_told()
 
     def take(self, number):
         """The data of the next outcomes, so many or all that there are."""
-        return taken(self, number)
+        return self._asked.next_data(number)
 
     def rest(self):
         """The data of all further outcomes, each asked for when it is wanted."""
@@ -125,29 +113,26 @@ class Run:
     def copy(self):
         """A run that goes on alike."""
         other = Run(self._term, self._datum, limit=self._limit)
-        other._engine = self._engine.twin()
-        other._given = self._given
-        other._is_at_outcome = self._is_at_outcome
-        other._last = self._last
+        other._asked = self._asked.twin()
         return other
 
     def __len__(self):
-        return len(range(self._given))
+        return len(range(self._asked.many))
 
     @property
     def events(self):
         """The steps done, in order."""
-        return tuple(self._engine.noted)
+        return tuple(self._asked.state.noted)
 
     @property
     def way(self):
         """The choices that led to the last outcome; None ahead of the first one and behind the ending."""
-        return path_numbers(self._engine.path) if self._is_at_outcome else None
+        return self._asked.way_told()
 
     @property
     def held(self):
         """How many choices of the way of the last outcome are open."""
-        return open_choices(self._engine.path) if self._is_at_outcome else 0
+        return self._asked.many_held()
 
 
 def demand_run(term, datum, limit):

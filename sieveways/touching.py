@@ -112,7 +112,7 @@ class Search:
             try:
                 at = self._on_the_way(at) if isinstance(at, Way) else self._going(at)
             except Unsettled as asked:
-                at = self._asked(at, asked.place, asked.question)
+                at = self._decide_on(at, asked.place, asked.question)
         return self.shown
 
     def _on_the_way(self, way):
@@ -169,7 +169,7 @@ class Search:
                 found = found | (1 << number)
         return found
 
-    def _asked(self, at, place, question):
+    def _decide_on(self, at, place, question):
         """Decides what is not known."""
         word = question[0]
         states = self.splits.answered(State((at.sketch,), (), 0, (), None), (0, place, question))

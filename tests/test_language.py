@@ -244,8 +244,8 @@ class LanguageTest(unittest.TestCase):
     def test_properties_and_attributes(self):
         classes = [node for _, node in self.nodes() if isinstance(node, ast.ClassDef)]
         methods = [inner for node in classes for inner in node.body if isinstance(inner, ast.FunctionDef)]
-        properties = {inner.name for inner in methods if inner.decorator_list and ast.unparse(inner.decorator_list[0]) == "property"}
-        plain = {inner.name for inner in methods} - properties
+        properties = {inner.name for inner in methods if "property" in [ast.unparse(told) for told in inner.decorator_list]}
+        plain = {inner.name for inner in methods if not inner.decorator_list}
         self.assertEqual(properties & plain, set())
         for where, node in self.nodes():
             if isinstance(node, ast.Attribute) and not isinstance(node.ctx, ast.Load):
