@@ -1,12 +1,12 @@
 """Books: filters and shapes with names, which may use one another."""
 
 from sieveways.entries import (
-    demand_filters, demand_known_calls, demand_known_shapes, demand_names, demand_not_standing, demand_shapes,
+    are_entries_alike, demand_filters, demand_known_calls, demand_known_shapes, demand_names, demand_not_standing,
+    demand_shapes,
 )
 from sieveways.errors import NoName
 from sieveways.plain import plain_filter
 from sieveways.runs import tell_called
-from sieveways.told import is_told_alike
 
 
 class Book:
@@ -38,10 +38,9 @@ class Book:
         return iter(self._names)
 
     def __eq__(self, other):
-        if not isinstance(other, Book):
+        if not isinstance(other, Book) or not are_entries_alike(self._filters, other._filters):
             return False
-        one = (tuple(self._filters.items()), tuple(self._shapes.items()))
-        return is_told_alike(one, (tuple(other._filters.items()), tuple(other._shapes.items())))
+        return are_entries_alike(self._shapes, other._shapes)
 
     def filter(self, name):
         """The filter of a name."""

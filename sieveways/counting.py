@@ -10,8 +10,9 @@ from sieveways.slots import Slots, first_leaves, list_slots
 
 
 class Counts:
-    """For each slot of each kind: with how many parts in all it can be free, by the facts about elements that are so
-    then (`totals`), and how many parts an element can have, by what it tells there (`counted`).
+    """With how many parts in all each slot of each kind can be free, and how many parts an element there can have.
+
+    `totals` has the former by the facts about elements that are so then, `counted` the latter by what elements tell.
     """
 
     def __init__(self, scheme):

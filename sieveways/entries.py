@@ -3,6 +3,7 @@
 from sieveways.errors import InvalidEntry, InvalidName, Standing, Unknown
 from sieveways.filters import first_unbound, is_filter
 from sieveways.formulas import is_shape, shapes_in
+from sieveways.told import is_told_alike
 from sieveways.words import is_free_name
 
 
@@ -91,3 +92,8 @@ def _led_to(further, name):
             reached[other] = True
             waiting.extend(further[other])
     return reached
+
+
+def are_entries_alike(one, other):
+    """Whether two dicts have the same names with the same filters or shapes; names are ascending in both."""
+    return is_told_alike(tuple(one.items()), tuple(other.items()))

@@ -69,10 +69,10 @@ def _filter_told(content, name):
         return "gone", name
     try:
         return "plain", content.shelf.plain(name)
-    except Endless as error:
-        return "endless", error.name
-    except TooGreat as error:
-        return "great", error.name
+    except Endless as endless:
+        return "endless", endless.name
+    except TooGreat as great:
+        return "great", great.name
 
 
 def _shape_told(content, name):

@@ -23,10 +23,6 @@ class Piece:
         self.at = at
         self.end = end
 
-    def is_told(self, kind, told):
-        """Whether this is a piece of a kind that tells a word or sign."""
-        return self.kind == kind and self.told == told
-
 
 def pieces_of(text):
     """All pieces of a text up to the first wrong one, and the end."""

@@ -39,12 +39,14 @@ class Telling:
         return self._events
 
     def __eq__(self, other):
-        if not isinstance(other, Telling):
+        if not isinstance(other, Telling) or not alike(list(self._outcomes), list(other._outcomes)):
             return False
-        if not alike(list(self._outcomes), list(other._outcomes)):
-            return False
-        told = (self._ending, self._failure, self._events)
-        return is_told_alike(told, (other._ending, other._failure, other._events))
+        return is_told_alike(_ended(self), _ended(other))
+
+
+def _ended(telling):
+    """How a whole run ended, and its steps."""
+    return telling.ending, telling.failure, telling.events
 
 
 def tell(term, datum, *, limit=1000):

@@ -3,12 +3,13 @@
 from sieveways.choosers import demand_chooser
 from sieveways.counting import Counts
 from sieveways.data import copied
-from sieveways.entries import demand_known_shapes, demand_names, demand_not_standing, demand_shapes, first_unknown
+from sieveways.entries import (
+    are_entries_alike, demand_known_shapes, demand_names, demand_not_standing, demand_shapes, first_unknown,
+)
 from sieveways.errors import UnknownShape
 from sieveways.facts import ALWAYS, Facts, all_given, fact_of_shape, shape_of_fact
 from sieveways.growing import Growth
 from sieveways.schemes import Scheme
-from sieveways.told import is_told_alike
 
 
 class Shapes:
@@ -28,7 +29,7 @@ class Shapes:
         return len(self._shapes)
 
     def __eq__(self, other):
-        return isinstance(other, Shapes) and is_told_alike(_pairs(self._shapes), _pairs(other._shapes))
+        return isinstance(other, Shapes) and are_entries_alike(self._shapes, other._shapes)
 
     def has(self, shape, datum):
         """Whether a datum is in a shape."""
@@ -103,6 +104,3 @@ class Shapes:
         found = Growth(self._scheme(facts, goal)).first()
         return None if found is None else (copied(found[0]),)
 
-
-def _pairs(shapes):
-    return tuple(shapes.items())

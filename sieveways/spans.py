@@ -1,6 +1,6 @@
 """Spans: where the parts of a filter stand in a text, and texts with other parts or with fewer parentheses."""
 
-from sieveways.errors import InvalidText, NoSpot, NotFitting, OutOfRange
+from sieveways.errors import InvalidText, NotFitting, OutOfRange
 from sieveways.filters import is_chooser, is_filter, is_test, is_walk
 from sieveways.forms import kinds_and_parts, narrowed
 from sieveways.pieces import would_join

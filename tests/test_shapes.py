@@ -2,6 +2,7 @@
 
 import copy
 import inspect
+import time
 import unittest
 
 from sieveways.choosers import chosen
@@ -351,6 +352,34 @@ class LeastTest(unittest.TestCase):
         found = Shapes(deep).least(("name", "x"))
         self.assertEqual(found, (nested(60, lambda inner: {"a": inner}),))
         self.assertIs(is_datum(found[0]), True)
+
+
+class CostTest(unittest.TestCase):
+    """Questions with about 20 shapes, filters and tests, in which many things have to be told apart."""
+
+    def shapes(self):
+        fields = lambda letters: [("field", letter) for letter in letters]
+        both = lambda rows: rows[0] if len(rows) == 1 else ("both", rows[0], both(rows[1:]))
+        every = lambda many: ("and", ("some", E, ("equal", many)), every(many - 1)) if many else ("some", E, YES)
+        yield ("some", both(fields("abcdefghi")), NULL), 10
+        yield ("all", both(fields("abcdefghi")), NULL), 10
+        yield ("some", ("pipe", both(fields("abcd")), both(fields("efgh"))), NULL), 21
+        yield ("some", ("pipe", ("pipe", E, both(fields("efgh"))), both(fields("abc"))), NULL), 18
+        yield ("some", ("pipe", E, both([("try", field) for field in fields("abcde")])), ("not", NULL)), 3
+        yield every(4), 6
+        yield ("some", ("pipe", E, ("pipe", E, ("pipe", E, E))), ("and", ("least", 2), ("each", ("and", ("least", 3), ("each", ("is", "text")))))), 13
+
+    def test_they_are_answered_within_seconds(self):
+        begin = time.monotonic()
+        shapes = Shapes({})
+        for shape, parts in self.shapes():
+            found = shapes.least(shape)
+            self.assertEqual((parts_of(found[0]), plain_has({}, shape, found[0])), (parts, True), shape)
+            self.assertIs(shapes.least(("and", ("each", shape), ("or", NULL, YES))), None)
+            told = shapes.sizes(shape, 30)
+            self.assertEqual(told.index(True) + 1, parts)
+            self.assertIs(shapes.shape_within(shapes.simple(shape), ("or", ("is", "text"), shape)), None)
+        self.assertLess(time.monotonic() - begin, 60)
 
 
 class BruteTest(unittest.TestCase):
